@@ -1,0 +1,1 @@
+"""Retryslots: fixed retry schedules after an outage."""
