@@ -49,7 +49,7 @@ class Rule:
         further = attempt - len(self._gaps)
         if self._tail[0] == "times":
             return self._gaps[-1] * _power(self._tail[1], further + 1)
-        return self._gaps[self._first_repeating() + further % self._tail[1]]
+        return self._gaps[self.first_repeating() + further % self._tail[1]]
 
     def offset(self, attempt):
         """Return the sum of all gaps before an attempt."""
@@ -79,11 +79,17 @@ class Rule:
         """Return the sum of the gaps that repeat, or None if none do."""
         if self._tail[0] != "repeat":
             return None
-        return self._offsets[-1] - self._offsets[self._first_repeating()]
+        return self._offsets[-1] - self._offsets[self.first_repeating()]
 
     def least_gap(self):
         """Return the least gap, or None for a rule with one attempt."""
         return min(self._gaps, default=None)
+
+    def first_repeating(self):
+        """Return the first attempt behind which the gaps repeat, or None if none do."""
+        if self._tail[0] != "repeat":
+            return None
+        return len(self._gaps) - self._tail[1]
 
     def _check_attempt(self, attempt):
         if not is_integer(attempt) or attempt < 0:
@@ -92,10 +98,6 @@ class Rule:
             raise InvalidAttempt(attempt)
         if self._tail[0] == "times" and attempt > _LAST_GROWING:
             raise LimitExceeded(_LAST_GROWING)
-
-    def _first_repeating(self):
-        """Return the first attempt behind which the gaps repeat."""
-        return len(self._gaps) - self._tail[1]
 
     def _offset_of(self, attempt):
         """Return the offset of an attempt of the rule, without the limit of growing gaps."""
@@ -107,7 +109,7 @@ class Rule:
             factor = self._tail[1]
             return self._offsets[-1] + self._gaps[-1] * factor * (_power(factor, further) - 1) // (factor - 1)
         periods, rest = divmod(further, self._tail[1])
-        return self._offsets[self._first_repeating() + rest] + (periods + 1) * self.period()
+        return self._offsets[self.first_repeating() + rest] + (periods + 1) * self.period()
 
     def _first_growing(self, distance):
         """Return the first attempt from a distance on that lies behind the listed gaps, which grow."""
@@ -123,7 +125,7 @@ class Rule:
 
     def _first_repeated(self, distance):
         """Return the first attempt from a distance on that lies behind the listed gaps, which repeat."""
-        first = self._first_repeating()
+        first = self.first_repeating()
         periods, rest = divmod(distance - self._offsets[first], self.period())
         within = _first_at_least(self._offsets, self._offsets[first] + rest)
         return within + periods * self._tail[1]

@@ -1,6 +1,6 @@
 """A rule stepped through gap by gap, as the document describes it."""
 
-from itertools import islice, product
+from itertools import combinations, islice, product
 
 
 def small_rules():
@@ -37,3 +37,12 @@ def stepped_offsets(gaps, tail, most):
     for gap in stepped_gaps(gaps, tail, most - 1):
         offsets.append(offsets[-1] + gap)
     return offsets
+
+
+def stepped_differences(gaps, tail, most):
+    """Return a dict from the differences of the first attempts, at most so many, to their pairs."""
+    offsets = stepped_offsets(gaps, tail, most)
+    differences = {}
+    for first, second in combinations(range(len(offsets)), 2):
+        differences.setdefault(offsets[second] - offsets[first], []).append((first, second))
+    return differences

@@ -59,3 +59,123 @@ class RuleExamples(unittest.TestCase):
             >>> Rule([1], ('times', 2)).offset(1001)
             raises LimitExceeded(limit=1000)
         """)
+
+
+class DifferenceExamples(unittest.TestCase):
+    def test_e201(self):
+        check_session(self, """
+            >>> from retryslots.rules import Rule
+            >>> from retryslots.differences import is_spread
+            >>> r = Rule([1, 2], ('times', 2))
+            >>> is_spread(r)
+            True
+        """)
+
+    def test_e204(self):
+        check_session(self, """
+            >>> from retryslots.rules import Rule
+            >>> from retryslots.differences import first_repetition
+            >>> q = Rule([1, 1], ('times', 2))
+            >>> first_repetition(q)
+            ((0, 1), (1, 2))
+        """)
+
+    def test_e207(self):
+        check_session(self, """
+            >>> from retryslots.rules import Rule
+            >>> from retryslots.differences import is_repetition
+            >>> q = Rule([1, 1], ('times', 2))
+            >>> is_repetition(q, ((2, 3), (0, 2)))
+            True
+        """)
+
+    def test_e209(self):
+        check_session(self, """
+            >>> from retryslots.rules import Rule
+            >>> from retryslots.differences import shared_attempts
+            >>> r = Rule([1, 2], ('times', 2))
+            >>> shared_attempts(r, 6)
+            ([(3, 1)], [])
+        """)
+
+    def test_e213(self):
+        check_session(self, """
+            >>> from retryslots.rules import Rule
+            >>> from retryslots.differences import most_shared
+            >>> q = Rule([1, 1], ('times', 2))
+            >>> most_shared(q)
+            (2, 1)
+        """)
+
+    def test_e216(self):
+        check_session(self, """
+            >>> from retryslots.rules import Rule
+            >>> from retryslots.differences import next_distance
+            >>> r = Rule([1, 2], ('times', 2))
+            >>> next_distance(r, 5)
+            (6, (3, 1))
+        """)
+
+    def test_e219(self):
+        check_session(self, """
+            >>> from retryslots.rules import Rule
+            >>> from retryslots.differences import count_distances
+            >>> r = Rule([1, 2], ('times', 2))
+            >>> count_distances(r, 10)
+            7
+        """)
+
+
+class SceneExamples(unittest.TestCase):
+    def test_e302(self):
+        check_session(self, """
+            >>> from retryslots.rules import Rule
+            >>> from retryslots.scenes import Scene
+            >>> scene = Scene(Rule([5, 3], ('end',)), [0, -5], outages=[(-10, 0)], length=3)
+            >>> [scene.slot_of(1, 2), scene.attempt_in(0, 5), scene.outage_at(-1)]
+            [3, 1, 0]
+        """)
+
+
+class RunExamples(unittest.TestCase):
+    def test_e303(self):
+        check_session(self, """
+            >>> from retryslots.rules import Rule
+            >>> from retryslots.scenes import Scene
+            >>> from retryslots.runs import Run
+            >>> scene = Scene(Rule([5, 3], ('end',)), [0, -5], outages=[(-10, 0)], length=3)
+            >>> Run(scene).outcomes()
+            [('served', 2, 8), ('served', 2, 3)]
+        """)
+
+    def test_e304(self):
+        check_session(self, """
+            >>> from retryslots.rules import Rule
+            >>> from retryslots.scenes import Scene
+            >>> from retryslots.runs import Run
+            >>> scene = Scene(Rule([5, 3], ('end',)), [0, -5], outages=[(-10, 0)], length=3)
+            >>> Run(scene).order()
+            [(3, 1), (8, 0)]
+        """)
+
+    def test_e305(self):
+        check_session(self, """
+            >>> from retryslots.rules import Rule
+            >>> from retryslots.scenes import Scene
+            >>> from retryslots.runs import Run
+            >>> scene = Scene(Rule([5, 3], ('end',)), [0, -5], outages=[(-10, 0)], length=3)
+            >>> run = Run(scene)
+            >>> [run.active(-1), run.active(4), run.attempting(0), run.active(9)]
+            [[1], [0], [0, 1], []]
+        """)
+
+    def test_e306(self):
+        check_session(self, """
+            >>> from retryslots.rules import Rule
+            >>> from retryslots.scenes import Scene
+            >>> from retryslots.runs import Run
+            >>> scene = Scene(Rule([5, 3], ('end',)), [0, -5], outages=[(-10, 0)], length=3)
+            >>> run = Run(scene)
+            >>> [run.event(0), run.event(5), run.event(4), run.event(3), run.event(-5), run.event(1)]
+            [('met', [0, 1]), ('busy', 1, [0]), ('busy', 1, []), ('served', 1), ('outage', 0, [1]), ('idle',)]
+        """)
