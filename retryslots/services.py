@@ -5,10 +5,10 @@ from heapq import heappop, heappush
 
 def find_services(scene):
     """Return the ascending list of tuples (slot, client) of all services in a scene."""
-    return _Course(scene).services()
+    return Course(scene).services()
 
 
-class _Course:
+class Course:
     """What happens in a scene, in the slots that may change something.
 
     These are the slots of the attempts before the gaps repeat, of each client's
@@ -19,8 +19,8 @@ class _Course:
     def __init__(self, scene):
         self._scene = scene
         self._starts = scene.starts()
-        self._gaps = _SingleGaps(scene.rule())
-        self._loop = _Loop(scene.rule())
+        self._gaps = SingleGaps(scene.rule())
+        self._loop = Loop(scene.rule())
         self._queue = []
         for client, start in enumerate(self._starts):
             heappush(self._queue, (start, client, 0))
@@ -79,7 +79,7 @@ class _Course:
         return client
 
 
-class _SingleGaps:
+class SingleGaps:
     """The gaps of a rule before those that repeat, without the limit of growing gaps."""
 
     def __init__(self, rule):
@@ -97,7 +97,7 @@ class _SingleGaps:
         return None
 
 
-class _Loop:
+class Loop:
     """The clients whose attempts repeat, by the residues of their slots modulo the period."""
 
     def __init__(self, rule):

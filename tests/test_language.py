@@ -103,6 +103,19 @@ class Names(unittest.TestCase):
             if node.name.startswith("__"):
                 self.assertIn(node.name, DOUBLE, f"{name}:{node.lineno}")
 
+    def test_classes_begin_with_a_letter(self):
+        classes = nodes(ast.ClassDef)
+        self.assertGreater(len(classes), 10)
+        self.assertEqual([f"{name}: {node.name}" for name, node in classes if not node.name[0].isalpha()], [])
+
+    def test_private_names(self):
+        bound = [(name, node.name) for name, node in nodes((ast.FunctionDef, ast.ClassDef))]
+        bound += [(name, node.id) for name, node in nodes(ast.Name)] + [(name, node.arg) for name, node in nodes(ast.arg)]
+        bound += [(name, node.attr) for name, node in nodes(ast.Attribute)]
+        for name, word in bound:
+            if word != "_" and word not in DOUBLE:
+                self.assertRegex(word, r"^_?[A-Za-z][A-Za-z0-9_]*$", name)
+
     def test_generator_expressions_beside_equality(self):
         for name, node in nodes(ast.Call):
             if isinstance(node.func, ast.Name) and node.func.id in GREEDY:
