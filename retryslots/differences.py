@@ -1,7 +1,8 @@
 """The differences between the offsets of a rule, and the distances at which two clients share slots."""
 
-from retryslots.errors import InvalidAttempt, InvalidBound, InvalidSlot, LimitExceeded
-from retryslots.offsets import listed_offsets, offsets_beyond
+from retryslots.checks import check_bound
+from retryslots.errors import InvalidAttempt, InvalidSlot, LimitExceeded
+from retryslots.offsets import listed_offsets, offsets_beyond, single_offsets
 from retryslots.wholes import is_integer
 
 
@@ -57,8 +58,7 @@ def next_distance(rule, distance):
 
 def count_distances(rule, limit):
     """Return the number of distances up to a limit at which two clients share a slot."""
-    if not is_integer(limit) or limit < 0:
-        raise InvalidBound("limit")
+    check_bound("limit", limit, 0, None)
     if rule.first_repeating() is not None:
         return _count_repeating(rule, limit)
     offsets = _telling_offsets(rule)
@@ -185,7 +185,7 @@ def _count_repeating(rule, limit):
     period = rule.period()
     least = _least_by_residue(rule)
     count = sum([(limit - difference) // period + 1 for difference in least.values() if difference <= limit])
-    for difference in _pairs_by_difference(listed_offsets(rule)[:rule.first_repeating()]):
+    for difference in _pairs_by_difference(single_offsets(rule)):
         if difference <= limit and difference < least.get(difference % period, difference + 1):
             count = count + 1
     return count

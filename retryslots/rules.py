@@ -1,26 +1,27 @@
 """Rules: the gaps between the attempts of a client."""
 
+from retryslots.checks import are_gaps
 from retryslots.errors import InvalidAttempt, InvalidRule, InvalidSlot, LimitExceeded
+from retryslots.offsets import sums
 from retryslots.wholes import is_integer
 
 _MOST_GAPS = 20
-_LONGEST_GAP = 10 ** 12
 _GREATEST_FACTOR = 1000
 # Growing gaps gain digits with every attempt, so there is a last one that is answered.
-_LAST_GROWING = 1000
+LAST_GROWING = 1000
 
 
 class Rule:
     """Gaps and a tail that says which gaps follow the listed ones."""
 
     def __init__(self, gaps, tail):
-        if not _are_gaps(gaps):
+        if not are_gaps(gaps, _MOST_GAPS):
             raise InvalidRule("gaps")
         if not _is_tail(tail, len(gaps)):
             raise InvalidRule("tail")
         self._gaps = list(gaps)
         self._tail = tuple(tail)
-        self._offsets = _sums(self._gaps)
+        self._offsets = sums(self._gaps)
 
     def __eq__(self, other):
         return isinstance(other, Rule) and self._gaps == other._gaps and self._tail == other._tail
@@ -91,13 +92,17 @@ class Rule:
             return None
         return len(self._gaps) - self._tail[1]
 
+    def offsets_between(self, first, after):
+        """Return the offsets of the attempts from one on and before another one, also of far ones with growing gaps."""
+        return [self._offset_of(attempt) for attempt in range(first, after)]
+
     def _check_attempt(self, attempt):
         if not is_integer(attempt) or attempt < 0:
             raise InvalidAttempt(attempt)
         if self._tail[0] == "end" and attempt >= len(self._offsets):
             raise InvalidAttempt(attempt)
-        if self._tail[0] == "times" and attempt > _LAST_GROWING:
-            raise LimitExceeded(_LAST_GROWING)
+        if self._tail[0] == "times" and attempt > LAST_GROWING:
+            raise LimitExceeded(LAST_GROWING)
 
     def _offset_of(self, attempt):
         """Return the offset of an attempt of the rule, without the limit of growing gaps."""
@@ -113,15 +118,20 @@ class Rule:
 
     def _first_growing(self, distance):
         """Return the first attempt from a distance on that lies behind the listed gaps, which grow."""
-        # Each gap is at least twice the one before: the steps are as few as the distance has bits.
-        attempt = len(self._gaps)
-        offset = self._offsets[-1]
-        gap = self._gaps[-1]
+        attempt = len(self._gaps) + self._surely_short(distance - self._offsets[-1])
+        offset = self._offset_of(attempt)
+        gap = self._gaps[-1] * _power(self._tail[1], attempt - len(self._gaps))
         while offset < distance:
             gap = gap * self._tail[1]
             offset = offset + gap
             attempt = attempt + 1
         return attempt
+
+    def _surely_short(self, way):
+        """Return a number of further gaps that are together shorter than a way, not much below the greatest one."""
+        # Together, k further gaps are below the last listed one times twice the k-th power of the factor.
+        bits = way.bit_length() - self._gaps[-1].bit_length() - 2
+        return max(0, bits // (self._tail[1] - 1).bit_length())
 
     def _first_repeated(self, distance):
         """Return the first attempt from a distance on that lies behind the listed gaps, which repeat."""
@@ -129,13 +139,6 @@ class Rule:
         periods, rest = divmod(distance - self._offsets[first], self.period())
         within = _first_at_least(self._offsets, self._offsets[first] + rest)
         return within + periods * self._tail[1]
-
-
-def _are_gaps(value):
-    """Tell whether a value is a list of gaps."""
-    if not isinstance(value, list) or len(value) > _MOST_GAPS:
-        return False
-    return all([is_integer(gap) and 1 <= gap <= _LONGEST_GAP for gap in value])
 
 
 def _is_tail(value, many):
@@ -152,14 +155,6 @@ def _is_tail(value, many):
     if value[0] == "times":
         return many > 0 and 2 <= value[1] <= _GREATEST_FACTOR
     return value[0] == "repeat" and 1 <= value[1] <= many
-
-
-def _sums(gaps):
-    """Return the offsets of the attempts up to the one behind the last listed gap."""
-    offsets = [0]
-    for gap in gaps:
-        offsets.append(offsets[-1] + gap)
-    return offsets
 
 
 def _first_at_least(offsets, distance):

@@ -43,16 +43,25 @@ class Run:
         """Return the ascending list of the clients that have begun and make an attempt in a slot or later."""
         check_slot(slot)
         rule = self._scene.rule()
+        endless = rule.attempts() is None
         active = []
         for client, start in enumerate(self._scene.starts()):
             waits = client not in self._served or self._served[client] >= slot
-            if start <= slot and waits and rule.first_from(slot - start) is not None:
+            if start <= slot and waits and (endless or rule.first_from(slot - start) is not None):
                 active.append(client)
         return active
 
     def attempting(self, slot):
         """Return the ascending list of the clients that make an attempt in a slot."""
-        return [client for client in self.active(slot) if self._scene.attempt_in(client, slot) is not None]
+        rule = self._scene.rule()
+        starts = self._scene.starts()
+        active = self.active(slot)
+        # Clients may have equal starts, and finding a far attempt takes long.
+        placed = {}
+        for client in active:
+            if starts[client] not in placed:
+                placed[starts[client]] = rule.attempt_at(slot - starts[client]) is not None
+        return [client for client in active if placed[starts[client]]]
 
     def event(self, slot):
         """Return what happens in a slot."""

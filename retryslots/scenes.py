@@ -1,11 +1,10 @@
 """Scenes: clients that share one server, and its outages."""
 
-from retryslots.checks import check_client, check_slot
+from retryslots.checks import are_slots, check_client, check_slot, check_starts
 from retryslots.errors import InvalidScene
 from retryslots.rules import Rule
 from retryslots.wholes import is_integer
 
-_MOST_CLIENTS = 40
 _MOST_OUTAGES = 10
 
 
@@ -15,7 +14,7 @@ class Scene:
     def __init__(self, rule, starts, *, outages=None, length=1):
         if not isinstance(rule, Rule):
             raise InvalidScene("rule", -1)
-        _check_starts(starts)
+        check_starts(starts, 1)
         if outages is not None:
             _check_outages(outages)
         if not is_integer(length) or length < 1:
@@ -67,26 +66,10 @@ class Scene:
         return None
 
 
-def _check_starts(value):
-    """Raise the error of the starts, unless a value is a list of so many integers as there may be clients."""
-    if not isinstance(value, list) or not 1 <= len(value) <= _MOST_CLIENTS:
-        raise InvalidScene("starts", -1)
-    for at, start in enumerate(value):
-        if not is_integer(start):
-            raise InvalidScene("starts", at)
-
-
 def _check_outages(value):
     """Raise the error of the outages, unless a value is a list of outages, one behind another."""
     if not isinstance(value, list) or len(value) > _MOST_OUTAGES:
         raise InvalidScene("outages", -1)
     for at, outage in enumerate(value):
-        if not _is_outage(outage) or at > 0 and outage[0] < value[at - 1][1]:
+        if not are_slots(outage) or at > 0 and outage[0] < value[at - 1][1]:
             raise InvalidScene("outages", at)
-
-
-def _is_outage(value):
-    """Tell whether a value is a tuple of two integers, the first of which is below the second."""
-    if not isinstance(value, tuple) or len(value) != 2:
-        return False
-    return is_integer(value[0]) and is_integer(value[1]) and value[0] < value[1]

@@ -2,6 +2,8 @@
 
 from heapq import heappop, heappush
 
+from retryslots.offsets import repeating_offsets
+
 
 def find_services(scene):
     """Return the ascending list of tuples (slot, client) of all services in a scene."""
@@ -103,9 +105,7 @@ class Loop:
     def __init__(self, rule):
         self._period = rule.period()
         self._first = rule.first_repeating()
-        self._offsets = []
-        if self._first is not None:
-            self._offsets = [rule.offset(attempt) for attempt in range(self._first, len(rule.gaps()))]
+        self._offsets = repeating_offsets(rule)
         self._clients = {}
         self._lone = None
         self._changed = False

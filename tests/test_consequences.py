@@ -7,26 +7,13 @@ from itertools import permutations
 from retryslots.rules import Rule
 from retryslots.runs import Run
 from retryslots.scenes import Scene
+from tests.changes import FAR, multiplied, shifted
 from tests.slot_by_slot import Parts, Stepped, small_scenes
-
-FAR = 10 ** 29
 
 
 def moved(outcomes, change):
     """Return outcomes whose slots are changed by a function."""
     return [(*outcome[:2], change(outcome[2])) if len(outcome) == 3 else outcome for outcome in outcomes]
-
-
-def multiplied(parts, number):
-    """Return the parts of a scene with all of its numbers multiplied."""
-    return Parts([gap * number for gap in parts.gaps], parts.tail, [start * number for start in parts.starts],
-                 [(first * number, after * number) for first, after in parts.outages], parts.length * number)
-
-
-def shifted(parts, number):
-    """Return the parts of a scene that is moved by a number of slots."""
-    return Parts(parts.gaps, parts.tail, [start + number for start in parts.starts],
-                 [(first + number, after + number) for first, after in parts.outages], parts.length)
 
 
 class Changes(unittest.TestCase):

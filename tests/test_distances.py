@@ -97,6 +97,16 @@ class LongDistances(unittest.TestCase):
             self.assertEqual(DOUBLED.first_from(distance), first)
             self.assertEqual(DOUBLED.attempt_at(distance), first if offsets[first] == distance else None)
 
+    def test_far_attempts_with_growing_gaps(self):
+        for gaps in ([1], [10 ** 12], [10 ** 12, 1], [1, 1000, 7]):
+            for factor in (2, 3, 4, 5, 8, 9, 10, 16, 17, 512, 513, 999, 1000):
+                rule = Rule(gaps, ("times", factor))
+                for attempt in (*range(1, 40), 63, 64, 65, 500, 999, 1000):
+                    offset = rule.offset(attempt)
+                    self.assertEqual((rule.first_from(offset - 1), rule.first_from(offset), rule.first_from(offset + 1)),
+                                     (attempt if offset - 1 > rule.offset(attempt - 1) else attempt - 1, attempt,
+                                      attempt + 1))
+
     def test_no_limit_for_growing_gaps(self):
         last = DOUBLED.offset(1000)
         self.assertEqual((DOUBLED.first_from(last), DOUBLED.attempt_at(last)), (1000, 1000))

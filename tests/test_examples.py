@@ -179,3 +179,169 @@ class RunExamples(unittest.TestCase):
             >>> [run.event(0), run.event(5), run.event(4), run.event(3), run.event(-5), run.event(1)]
             [('met', [0, 1]), ('busy', 1, [0]), ('busy', 1, []), ('served', 1), ('outage', 0, [1]), ('idle',)]
         """)
+
+
+class ReasonExamples(unittest.TestCase):
+    def test_e309(self):
+        check_session(self, """
+            >>> from retryslots.rules import Rule
+            >>> from retryslots.scenes import Scene
+            >>> from retryslots.runs import Run
+            >>> from retryslots.reasons import reason
+            >>> scene = Scene(Rule([5, 3], ('end',)), [0, -5], outages=[(-10, 0)], length=3)
+            >>> run = Run(scene)
+            >>> [reason(run, 0, 0), reason(run, 0, 1), reason(run, 1, 0), reason(run, 1, 2)]
+            [('met', [1]), ('busy', 1), ('outage', 0), ('served',)]
+        """)
+
+    def test_e311(self):
+        check_session(self, """
+            >>> from retryslots.rules import Rule
+            >>> from retryslots.scenes import Scene
+            >>> from retryslots.runs import Run
+            >>> from retryslots.reasons import history
+            >>> loop = Run(Scene(Rule([2], ('repeat', 1)), [0, 2, 4, 101], outages=[(0, 5)]))
+            >>> history(loop, 0, 0, 5)
+            [(0, 3, ('outage', 0)), (3, 4, ('met', [1, 2])), (4, 5, ('met', [1, 2]))]
+        """)
+
+    def test_e314(self):
+        check_session(self, """
+            >>> from retryslots.rules import Rule
+            >>> from retryslots.scenes import Scene
+            >>> from retryslots.runs import Run
+            >>> from retryslots.reasons import failure_counts
+            >>> scene = Scene(Rule([5, 3], ('end',)), [0, -5], outages=[(-10, 0)], length=3)
+            >>> loop = Run(Scene(Rule([2], ('repeat', 1)), [0, 2, 4, 101], outages=[(0, 5)]))
+            >>> [failure_counts(Run(scene), 0, 0, 3), failure_counts(loop, 0, 0, 10 ** 20)]
+            [(0, 1, 1), (3, 0, 99999999999999999997)]
+        """)
+
+    def test_e315(self):
+        check_session(self, """
+            >>> from retryslots.rules import Rule
+            >>> from retryslots.scenes import Scene
+            >>> from retryslots.runs import Run
+            >>> from retryslots.reasons import closed_set
+            >>> closed_set(Run(Scene(Rule([2], ('repeat', 1)), [3, 3])), 1)[1]
+            [0, 1]
+        """)
+
+    def test_e316(self):
+        check_session(self, """
+            >>> from retryslots.rules import Rule
+            >>> from retryslots.scenes import Scene
+            >>> from retryslots.reasons import is_closed
+            >>> scene = Scene(Rule([2], ('repeat', 1)), [0, 2, 4])
+            >>> [is_closed(scene, 4, [0, 1, 2]), is_closed(scene, 2, [0, 1]), is_closed(scene, 1, [0, 2]), is_closed(scene, 4, [0])]
+            [True, True, False, False]
+        """)
+
+
+class StormExamples(unittest.TestCase):
+    def test_e10(self):
+        check_session(self, """
+            >>> from retryslots.rules import Rule
+            >>> from retryslots.scenes import Scene
+            >>> from retryslots.runs import Run
+            >>> from retryslots.storms import failures_behind, settled_slot
+            >>> scene = Scene(Rule([1], ('times', 2)), [0, 2], outages=[(0, 4)], length=3)
+            >>> run = Run(scene)
+            >>> [run.outcomes(), settled_slot(scene), failures_behind(run, 0), failures_behind(run, 1)]
+            [[('served', 4, 15), ('served', 2, 5)], 4, (1, 0), (0, 0)]
+        """)
+
+    def test_e11(self):
+        check_session(self, """
+            >>> from retryslots.rules import Rule
+            >>> from retryslots.scenes import Scene
+            >>> from retryslots.storms import failure_bounds
+            >>> scene = Scene(Rule([1], ('times', 2)), [0, 2], outages=[(0, 4)], length=3)
+            >>> failure_bounds(scene)
+            (None, 1)
+        """)
+
+    def test_e12(self):
+        check_session(self, """
+            >>> from retryslots.rules import Rule
+            >>> from retryslots.storms import blocking_starts
+            >>> blocking_starts(Rule([1], ('times', 2)), -1, -20, 2)
+            [-3, -5]
+        """)
+
+    def test_e13(self):
+        check_session(self, """
+            >>> from retryslots.rules import Rule
+            >>> from retryslots.scenes import Scene
+            >>> from retryslots.storms import placements
+            >>> placements(Scene(Rule([], ('end',)), [0, 1], length=2), 0, 2)
+            [(0, ('ended',)), (1, ('ended',)), (2, ('served', 0, 2))]
+        """)
+
+    def test_e14(self):
+        check_session(self, """
+            >>> from retryslots.rules import Rule
+            >>> from retryslots.scenes import Scene
+            >>> from retryslots.storms import helping_starts, harming_starts
+            >>> scene = Scene(Rule([], ('end',)), [0, 1], length=2)
+            >>> [helping_starts(scene, 1, 0, 2), harming_starts(scene, 0, 0, 2)]
+            [[0], [0]]
+        """)
+
+
+class LogExamples(unittest.TestCase):
+    def test_e222(self):
+        check_session(self, """
+            >>> from retryslots.rules import Rule
+            >>> from retryslots.logs import expected_log
+            >>> e = Rule([5, 3], ('end',))
+            >>> expected_log(e, (0, 10), [2, 0, 0, -3])
+            [(0, 2), (2, 2), (5, 3), (7, 1), (8, 2)]
+        """)
+
+    def test_e225(self):
+        check_session(self, """
+            >>> from retryslots.rules import Rule
+            >>> from retryslots.logs import infer_starts
+            >>> e = Rule([5, 3], ('end',))
+            >>> infer_starts(e, (0, 10), [(0, 2), (2, 1), (5, 2), (7, 1), (8, 2)])
+            ('starts', [(0, 2), (2, 1)])
+        """)
+
+    def test_e228(self):
+        check_session(self, """
+            >>> from retryslots.rules import Rule
+            >>> from retryslots.logs import remaining_log
+            >>> e = Rule([5, 3], ('end',))
+            >>> remaining_log(e, (0, 10), [(0, 2), (2, 2), (5, 3), (7, 1), (8, 2)], [-3])
+            ('log', [(0, 2), (2, 1), (5, 2), (7, 1), (8, 2)])
+        """)
+
+    def test_e230(self):
+        check_session(self, """
+            >>> from retryslots.logs import joined_logs
+            >>> joined_logs((0, 10), [(0, 1), (5, 1)], [(5, 2), (7, 1)])
+            [(0, 1), (5, 3), (7, 1)]
+        """)
+
+    def test_e231(self):
+        check_session(self, """
+            >>> from retryslots.rules import Rule
+            >>> from retryslots.logs import is_explanation
+            >>> e = Rule([5, 3], ('end',))
+            >>> is_explanation(e, (0, 3), [(0, 1)], [-5])
+            True
+        """)
+
+    def test_e233(self):
+        check_session(self, """
+            >>> from retryslots.rules import Rule
+            >>> from retryslots.logs import explanations
+            >>> e = Rule([5, 3], ('end',))
+            >>> explanations(e, (0, 3), [(0, 1)], -8, 1)
+            [[-8], [-5], [0]]
+        """)
+
+
+if __name__ == "__main__":
+    unittest.main()

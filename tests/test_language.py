@@ -110,7 +110,8 @@ class Names(unittest.TestCase):
 
     def test_private_names(self):
         bound = [(name, node.name) for name, node in nodes((ast.FunctionDef, ast.ClassDef))]
-        bound += [(name, node.id) for name, node in nodes(ast.Name)] + [(name, node.arg) for name, node in nodes(ast.arg)]
+        bound += [(name, node.id) for name, node in nodes(ast.Name)]
+        bound += [(name, node.arg) for name, node in nodes(ast.arg)]
         bound += [(name, node.attr) for name, node in nodes(ast.Attribute)]
         for name, word in bound:
             if word != "_" and word not in DOUBLE:
