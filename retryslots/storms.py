@@ -98,10 +98,12 @@ def _latest_start(rule, slot, low, others):
     if rule.first_repeating() is not None:
         # The other starts are spent when each gap has been repeated once more than there are such starts.
         behind = min(behind, len(rule.gaps()) * (len(others) + 2))
-    for attempt in range(1, behind):
-        begin = slot - rule.offset(attempt)
-        if rule.gap(attempt - 1) > slot and begin not in others:
-            return begin
+    earlier = 0
+    for offset in rule.offsets_between(1, behind):
+        # The attempt before this one lies before slot 0.
+        if offset - earlier > slot and slot - offset not in others:
+            return slot - offset
+        earlier = offset
     return None
 
 

@@ -103,9 +103,9 @@ class LongDistances(unittest.TestCase):
                 rule = Rule(gaps, ("times", factor))
                 for attempt in (*range(1, 40), 63, 64, 65, 500, 999, 1000):
                     offset = rule.offset(attempt)
-                    self.assertEqual((rule.first_from(offset - 1), rule.first_from(offset), rule.first_from(offset + 1)),
-                                     (attempt if offset - 1 > rule.offset(attempt - 1) else attempt - 1, attempt,
-                                      attempt + 1))
+                    below = attempt - 1 if rule.offset(attempt - 1) == offset - 1 else attempt
+                    found = [rule.first_from(offset + more) for more in (-1, 0, 1)]
+                    self.assertEqual(found, [below, attempt, attempt + 1])
 
     def test_no_limit_for_growing_gaps(self):
         last = DOUBLED.offset(1000)

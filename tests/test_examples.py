@@ -343,5 +343,197 @@ class LogExamples(unittest.TestCase):
         """)
 
 
+class ShortExamples(unittest.TestCase):
+    def test_e16(self):
+        check_session(self, """
+            >>> from retryslots.short import is_spread_list
+            >>> [is_spread_list([1, 2]), is_spread_list([1, 2, 1])]
+            [True, False]
+        """)
+
+    def test_e17(self):
+        check_session(self, """
+            >>> from retryslots.short import next_gaps
+            >>> [next_gaps([1], 4), next_gaps([1, 3], 5)]
+            [[2, 3, 4], [2, 5]]
+        """)
+
+    def test_e18(self):
+        check_session(self, """
+            >>> from retryslots.short import extended
+            >>> extended([], 4)
+            [1, 2, 4, 5]
+        """)
+
+    def test_e19(self):
+        check_session(self, """
+            >>> from retryslots.short import spread_lists
+            >>> spread_lists(3, 3)
+            [[1, 2], [2, 1]]
+        """)
+
+    def test_e20(self):
+        check_session(self, """
+            >>> from retryslots.short import shortest
+            >>> shortest(4)
+            (6, [[1, 3, 2], [2, 3, 1]])
+        """)
+
+
+class LoopExamples(unittest.TestCase):
+    def test_e236(self):
+        check_session(self, """
+            >>> from retryslots.rules import Rule
+            >>> from retryslots.loops import loop_distances
+            >>> c = Rule([4, 1, 2], ('repeat', 2))
+            >>> loop_distances(c)
+            [0, 1, 2]
+        """)
+
+    def test_e239(self):
+        check_session(self, """
+            >>> from retryslots.rules import Rule
+            >>> from retryslots.loops import meets_forever
+            >>> meets_forever(Rule([7, 2], ('repeat', 1)), -4)
+            True
+        """)
+
+    def test_e241(self):
+        check_session(self, """
+            >>> from retryslots.rules import Rule
+            >>> from retryslots.loops import blocked_clients
+            >>> c = Rule([4, 1, 2], ('repeat', 2))
+            >>> blocked_clients(c, [0, 1, 2])
+            [(0, (2, 1)), (1, (0, 2)), (2, (1, 0))]
+        """)
+
+    def test_e246(self):
+        check_session(self, """
+            >>> from retryslots.rules import Rule
+            >>> from retryslots.loops import next_service
+            >>> c = Rule([4, 1, 2], ('repeat', 2))
+            >>> next_service(c, [0, 1], 20)
+            (21, 1)
+        """)
+
+    def test_e249(self):
+        check_session(self, """
+            >>> from retryslots.rules import Rule
+            >>> from retryslots.loops import service_order
+            >>> c = Rule([4, 1, 2], ('repeat', 2))
+            >>> service_order(c, [0, 1], 20, 3)
+            [(21, 1), (25, 0)]
+        """)
+
+    def test_e251(self):
+        check_session(self, """
+            >>> from retryslots.rules import Rule
+            >>> from retryslots.loops import fewest_removed
+            >>> c = Rule([4, 1, 2], ('repeat', 2))
+            >>> fewest_removed(c, [0, 1, 2])
+            [0]
+        """)
+
+
+class EffectExamples(unittest.TestCase):
+    def test_e22(self):
+        check_session(self, """
+            >>> from retryslots.rules import Rule
+            >>> from retryslots.scenes import Scene
+            >>> from retryslots.runs import Run
+            >>> from retryslots.effects import recovered_slot, total_attempts
+            >>> run = Run(Scene(Rule([1], ('times', 2)), [0, 2], outages=[(0, 4)], length=3))
+            >>> [recovered_slot(run), total_attempts(run)]
+            [15, 8]
+        """)
+
+    def test_e23(self):
+        check_session(self, """
+            >>> from retryslots.rules import Rule
+            >>> from retryslots.scenes import Scene
+            >>> from retryslots.effects import recovery_table, earlier_recovery
+            >>> scene = Scene(Rule([1], ('times', 2)), [0, 2], outages=[(0, 4)], length=3)
+            >>> [recovery_table(scene, 0, 2), earlier_recovery(scene, 0, 2)]
+            [[15, 15, 17], None]
+        """)
+
+    def test_e24(self):
+        check_session(self, """
+            >>> from retryslots.rules import Rule
+            >>> from retryslots.scenes import Scene
+            >>> from retryslots.effects import first_wave
+            >>> first_wave(Scene(Rule([1], ('times', 2)), [0, 2], outages=[(0, 4)], length=3))
+            [(5, 1), (7, 0)]
+        """)
+
+    def test_e25(self):
+        check_session(self, """
+            >>> from retryslots.rules import Rule
+            >>> from retryslots.effects import compare_rules
+            >>> compare_rules(Rule([1], ('times', 2)), Rule([2], ('repeat', 1)), [0, 2], outages=[(0, 4)])
+            ((7, 7), (None, None))
+        """)
+
+    def test_e26(self):
+        check_session(self, """
+            >>> from retryslots.rules import Rule
+            >>> from retryslots.scenes import Scene
+            >>> from retryslots.effects import with_longer_outage
+            >>> scene = Scene(Rule([2], ('times', 2)), [0], outages=[(0, 4), (6, 9)])
+            >>> [with_longer_outage(scene, 0, 2).outages(), scene.outages()]
+            [[(0, 6), (6, 9)], [(0, 4), (6, 9)]]
+        """)
+
+
+class TextExamples(unittest.TestCase):
+    def test_e27(self):
+        check_session(self, """
+            >>> from retryslots.rules import Rule
+            >>> from retryslots.texts import format_rule, parse_rule
+            >>> [format_rule(Rule([1, 2], ('times', 2))), parse_rule('end') == Rule([], ('end',))]
+            ['1 2 times 2', True]
+        """)
+
+    def test_e28(self):
+        check_session(self, r"""
+            >>> from retryslots.rules import Rule
+            >>> from retryslots.scenes import Scene
+            >>> from retryslots.texts import format_scene
+            >>> format_scene(Scene(Rule([5, 3], ('end',)), [0, -5], outages=[(-10, 0)], length=3))
+            'rule 5 3 end\nstarts 0 -5\noutages -10..0\nlength 3'
+        """)
+
+    def test_e29(self):
+        check_session(self, r"""
+            >>> from retryslots.rules import Rule
+            >>> from retryslots.scenes import Scene
+            >>> from retryslots.runs import Run
+            >>> from retryslots.texts import format_outcomes
+            >>> format_outcomes(Run(Scene(Rule([5, 3], ('end',)), [0, -5], outages=[(-10, 0)], length=3)))
+            'served 2 8\nserved 2 3'
+        """)
+
+    def test_e30(self):
+        check_session(self, """
+            >>> from retryslots.texts import format_log, parse_log
+            >>> [format_log([(0, 2), (5, 1)]), parse_log('0:2 5:1'), parse_log('')]
+            ['0:2 5:1', [(0, 2), (5, 1)], []]
+        """)
+
+    def test_e31(self):
+        check_session(self, """
+            >>> from retryslots.texts import parse_rule
+            >>> parse_rule('1 02 end')
+            raises InvalidText(line=0, word=1)
+        """)
+
+    def test_e33(self):
+        check_session(self, r"""
+            >>> from retryslots.texts import parse_scene
+            >>> parse_scene('rule end\nstarts 1')
+            raises InvalidText(line=2, word=0)
+        """)
+
+
 if __name__ == "__main__":
     unittest.main()

@@ -38,6 +38,20 @@ def nodes(kinds):
     return found
 
 
+def bound_names(node):
+    """Return the names that a statement at module level binds."""
+    if isinstance(node, ast.ImportFrom):
+        return [imported.name for imported in node.names]
+    if isinstance(node, ast.Assign):
+        return [target.id for target in node.targets]
+    return [node.name] if isinstance(node, (ast.FunctionDef, ast.ClassDef)) else []
+
+
+def module_names(tree):
+    """Return the names that a file defines itself."""
+    return {name for node in tree.body if not isinstance(node, ast.ImportFrom) for name in bound_names(node)}
+
+
 def told(found):
     """Return where nodes stand."""
     return [f"{name}:{node.lineno}" for name, node in found]
@@ -72,6 +86,42 @@ class Statements(unittest.TestCase):
             self.assertTrue(len(parts) > 1 and parts[0] == "retryslots" or parts[0] in LIBRARY, (name, node.module))
             self.assertNotIn("*", [imported.name for imported in node.names], name)
 
+    def test_imports_name_the_defining_file(self):
+        defined = {file.stem: module_names(ast.parse(file.read_text())) for file in FILES}
+        for name, node in nodes(ast.ImportFrom):
+            parts = node.module.split(".")
+            if parts[0] == "retryslots":
+                for imported in node.names:
+                    self.assertIsNone(imported.asname, name)
+                    self.assertIn(imported.name, defined[parts[1]], name)
+
+    def test_no_files_import_from_each_other(self):
+        needed = {file.stem: set() for file in FILES}
+        for name, node in nodes(ast.ImportFrom):
+            if node.module.startswith("retryslots."):
+                needed[name.removesuffix(".py")].add(node.module.partition(".")[2])
+        while needed:
+            free = [file for file, others in needed.items() if not others & set(needed)]
+            self.assertTrue(free, needed)
+            for file in free:
+                del needed[file]
+
+    def test_imports_are_used(self):
+        for file in FILES:
+            tree = ast.parse(file.read_text())
+            read = {node.id for node in ast.walk(tree) if isinstance(node, ast.Name)}
+            for node in ast.walk(tree):
+                if isinstance(node, ast.ImportFrom):
+                    self.assertEqual({imported.name for imported in node.names} - read, set(), file.name)
+
+    def test_module_level(self):
+        for file in FILES:
+            tree = ast.parse(file.read_text())
+            for node in tree.body[1:]:
+                self.assertIsInstance(node, (ast.ImportFrom, ast.FunctionDef, ast.ClassDef, ast.Assign), file.name)
+            names = [name for node in tree.body for name in bound_names(node)]
+            self.assertEqual(sorted(names), sorted(set(names)), file.name)
+
     def test_forbidden_statements_and_operators(self):
         self.assertEqual([(name, node.__class__.__name__) for name, node in nodes(FORBIDDEN)], [])
 
@@ -91,6 +141,16 @@ class Names(unittest.TestCase):
                 self.assertIsInstance(node.ctx, ast.Load, f"{name}:{node.lineno}")
         for name, node in nodes(ast.arg):
             self.assertFalse(hasattr(builtins, node.arg), f"{name}:{node.lineno}")
+
+    def test_local_names(self):
+        for file in FILES:
+            tree = ast.parse(file.read_text())
+            taken = {name for node in tree.body if isinstance(node, (ast.ImportFrom, ast.ClassDef))
+                     for name in bound_names(node)}
+            stored = {node.id for node in ast.walk(tree) if isinstance(node, ast.Name)
+                      and not isinstance(node.ctx, ast.Load)}
+            stored |= {node.arg for node in ast.walk(tree) if isinstance(node, ast.arg)}
+            self.assertEqual(stored & taken, set(), file.name)
 
     def test_methods(self):
         own = {node.name for name, node in nodes(ast.FunctionDef)}

@@ -267,6 +267,12 @@ class Histories(unittest.TestCase):
         run = Run(Scene(DOUBLED, [0, 0], outages=[(0, FAR)]))
         self.assertEqual(len(history(run, 0, 0, 1001)), 905)
         check_fields(self, LimitExceeded(1000), history, run, 0, 0, 1002)
+        # All of the attempts are one entry, but attempt 1001 is made.
+        run = Run(Scene(DOUBLED, [0, 0], outages=[(0, 2 ** 1001)]))
+        self.assertEqual(history(run, 0, 0, 1001), [(0, 1001, ("outage", 0))])
+        self.assertEqual(failure_counts(run, 0, 0, 1003), (1002, 0, 1))
+        check_fields(self, LimitExceeded(1000), history, run, 0, 0, 1002)
+        check_fields(self, LimitExceeded(1000), history, run, 0, 1001, 1002)
         # A client that is served does not make it.
         run = Run(Scene(DOUBLED, [0, 0, 1], outages=[(0, FAR)]))
         self.assertEqual(history(run, 2, 0, FAR), [(0, 97, ("outage", 0)), (97, 98, ("served",))])
